@@ -1,0 +1,1 @@
+"""Chasefloor: places with doors, chasers and one who flees."""
