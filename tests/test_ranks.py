@@ -88,7 +88,7 @@ class RankTest(unittest.TestCase):
         forms = [form for form in floor_forms() if form[0] > 4]
         numberings = {size: list(permutations(range(size))) for size in (5, 6)}
         for k, (places, doors) in enumerate(forms):
-            numbers = numberings[places][k * 37 % len(numberings[places])]
+            numbers = numberings[places][(k * 37 + 1) % len(numberings[places])]
             floor = Floor(places, renumbered(doors, numbers))
             # One chaser's standings are few; of two chasers' the first ones stand on every pair with place 0.
             for count in (1, 2):
