@@ -74,6 +74,11 @@ def is_lost(near, ranks, runner):
     return all([ranks[place] is not None for place in near[runner]])
 
 
+# Never to be caught is more than any number of turns.
+def greatest_rank(ranks):
+    return None if None in ranks else max(ranks)
+
+
 # The lists are rising, so the tuples come in the order of lists.
 def choices(place_lists):
     found = [()]

@@ -6,6 +6,42 @@ from itertools import combinations, permutations, product
 from chasefloor.chase import rank
 from chasefloor.floors import Floor
 
+NO_STANDINGS_OF_THREE_PLACES = [
+    ([], 0),
+    ([0, 1, 2], 0),
+    ([0, 0, 0], 0),
+    ([0, 0, 0], 1),
+    ([0, 1, 2, 0], 1),
+    ([0, 1, 2, 0, 1], 1),
+    ([3], 0),
+    ([100], 0),
+    ([-1], 0),
+    ([-100], 0),
+    ([0, 3], 1),
+    ([3, 0], 1),
+    ([0, -1], 1),
+    ([-1, 0], 1),
+    ([-1, -1], 1),
+    ([0], 3),
+    ([0], 100),
+    ([0], -1),
+    ([0], -100),
+    ([0, 1], 3),
+    ([0, 1], -1),
+    ([3], 3),
+    ([-1], -1),
+    ([], 3),
+]
+
+
+def refusal(asked, *given):
+    """The very class of the refusal, or None where there is none."""
+    try:
+        asked(*given)
+    except ValueError as refused:
+        return type(refused)
+    return None
+
 
 def line(places):
     return places, [(k, k + 1) for k in range(places - 1)]
@@ -70,19 +106,51 @@ def floor_forms():
     return forms
 
 
+def larger_forms():
+    """The forms of 5 and 6 places, each with other numbers for its places."""
+    numberings = {size: list(permutations(range(size))) for size in (5, 6)}
+    for k, (places, doors) in enumerate([form for form in floor_forms() if form[0] > 4]):
+        yield places, doors, numberings[places][(k * 37 + 1) % len(numberings[places])]
+
+
+@lru_cache(maxsize=None)
+def tried_floors():
+    """Every numbering of the floors of up to 4 places, and one of each floor of 5 and of every other one of 6."""
+    tried = [(places, tuple(doors)) for size in range(1, 5) for places, doors in all_floors(size)]
+    for k, (places, doors, numbers) in enumerate(larger_forms()):
+        if places == 5 or k % 2 == 0:
+            tried.append((places, tuple(renumbered(doors, numbers))))
+    return tried
+
+
 def standings(places, count):
     for chasers in product(range(places), repeat=count):
         for runner in range(places):
             yield chasers, runner
 
 
+def told_or_refused(asked, floor, chasers, runner):
+    try:
+        return asked(floor, list(chasers), runner)
+    except ValueError as refused:
+        return type(refused)
+
+
 @lru_cache(maxsize=None)
-def told_ranks(places, doors, count):
+def told_everywhere(asked, places, doors, count):
     """What the program tells, standing by standing; kept, since several tests look at it."""
     floor = Floor(places, list(doors))
-    return {(chasers, runner): rank(floor, list(chasers), runner) for chasers, runner in standings(places, count)}
+    return {
+        (chasers, runner): told_or_refused(asked, floor, chasers, runner)
+        for chasers, runner in standings(places, count)
+    }
 
 
+def told_ranks(places, doors, count):
+    return told_everywhere(rank, places, doors, count)
+
+
+@lru_cache(maxsize=None)
 def reckoned_ranks(places, doors, count):
     """[6] to the letter: the least number of turns within which the chasers catch, whatever the runner does."""
     near = nears(places, doors)

@@ -1,11 +1,10 @@
 import unittest
-from itertools import permutations
 
 from chasefloor.chase import rank
 from chasefloor.floors import Floor
 from tests.helper import (
-    all_floors, floor_forms, full, line, nears, rank_by_the_ones_behind, reckoned_ranks, renumbered, ring, standings,
-    star, told_ranks,
+    all_floors, floor_forms, full, larger_forms, line, nears, rank_by_the_ones_behind, reckoned_ranks, renumbered,
+    ring, standings, star, told_ranks,
 )
 
 
@@ -82,13 +81,10 @@ class RankTest(unittest.TestCase):
             for places, doors in all_floors(size):
                 for count in (1, 2):
                     told = told_ranks(places, tuple(doors), count)
-                    self.assertEqual(told, reckoned_ranks(places, doors, count))
+                    self.assertEqual(told, reckoned_ranks(places, tuple(doors), count))
 
     def test_other_numberings_of_larger_floors(self):
-        forms = [form for form in floor_forms() if form[0] > 4]
-        numberings = {size: list(permutations(range(size))) for size in (5, 6)}
-        for k, (places, doors) in enumerate(forms):
-            numbers = numberings[places][(k * 37 + 1) % len(numberings[places])]
+        for places, doors, numbers in larger_forms():
             floor = Floor(places, renumbered(doors, numbers))
             # One chaser's standings are few; of two chasers' the first ones stand on every pair with place 0.
             for count in (1, 2):

@@ -3,34 +3,7 @@ import unittest
 from chasefloor.chase import is_caught, is_standing, rank
 from chasefloor.errors import NoStanding
 from chasefloor.floors import Floor
-from tests.helper import full, line, ring, standings, star
-
-NO_STANDINGS_OF_THREE_PLACES = [
-    ([], 0),
-    ([0, 1, 2], 0),
-    ([0, 0, 0], 0),
-    ([0, 0, 0], 1),
-    ([0, 1, 2, 0], 1),
-    ([0, 1, 2, 0, 1], 1),
-    ([3], 0),
-    ([100], 0),
-    ([-1], 0),
-    ([-100], 0),
-    ([0, 3], 1),
-    ([3, 0], 1),
-    ([0, -1], 1),
-    ([-1, 0], 1),
-    ([-1, -1], 1),
-    ([0], 3),
-    ([0], 100),
-    ([0], -1),
-    ([0], -100),
-    ([0, 1], 3),
-    ([0, 1], -1),
-    ([3], 3),
-    ([-1], -1),
-    ([], 3),
-]
+from tests.helper import NO_STANDINGS_OF_THREE_PLACES, full, line, ring, standings, star
 
 
 class StandingTest(unittest.TestCase):
